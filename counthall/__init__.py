@@ -1,0 +1,1 @@
+"""Counthall: counts told by many tellers, some of whom may be false."""

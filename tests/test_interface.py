@@ -1,0 +1,89 @@
+"""The interface: names, arguments and where they are defined."""
+
+import importlib
+import inspect
+import unittest
+
+BOUNDS = "low=None, high=None, *, weight=1"
+
+FUNCTIONS = {
+    "readings": {
+        "row_frame": "(rooms)", "ring_frame": "(rooms, total)", "stand_frame": "(rooms)",
+        "row_levels": "(counts)", "row_counts": "(levels)",
+        "stand_levels": "(counts)", "stand_counts": "(levels)",
+        "run_claim": f"(start, stop, {BOUNDS})",
+        "arc_claim": f"(boxes, total, start, length, {BOUNDS})",
+        "count_claim": f"(box, {BOUNDS})", "lead_claim": f"(box, other, {BOUNDS})",
+        "cell_run": "(kinds, box, kind=None)",
+    },
+    "lots": {
+        "largest_lots": "(doubt, weights)", "least_sure_groups": "(doubt, weights)",
+        "least_sets": "(sets)", "hitting_sets": "(sets)", "least_cover": "(doubt, weights)",
+    },
+    "exact": {"exact_counts": "(doubt, weights, values)", "parting_values": "(doubt, weights)"},
+    "tables": {
+        "closed_table": "(frame, claims=())", "in_table": "(table, levels)",
+        "row_world": "(table, node)", "column_world": "(table, node)",
+        "pinned_worlds": "(table, node, level)", "column_mix": "(table, shifts)",
+        "least_of": "(worlds)", "greatest_of": "(worlds)",
+        "middle_worlds": "(first, second)", "table_of": "(worlds)",
+    },
+    "chains": {
+        "chain_end": "(frame, claims, start, chain)", "clash_ring": "(frame, claims)",
+        "least_chain": "(frame, claims, first, second)",
+    },
+    "fitting": {"fitting_lots": "(hall)", "least_lots": "(hall)", "lightest_lot": "(hall)"},
+}
+
+ALLOWS = {"allows": "(self, lot, weights)"}
+
+CLASSES = {
+    "runs": {"Runs": {
+        "__init__": "(self, pairs)", "size": "(self)", "least": "(self)", "greatest": "(self)", "gaps": "(self)",
+    }},
+    "claims": {"Claim": {
+        "__init__": f"(self, first, second, {BOUNDS})", "holds": "(self, levels)", "excess": "(self, levels)",
+        "turned": "(self)", "widened": "(self, amount)", "parts": "(self)",
+    }},
+    "frames": {"Frame": {"__init__": "(self, size, rules)", "allows": "(self, levels)"}},
+    "ledger": {"Ledger": {
+        "__init__": "(self, rooms, last, *, gates=None)", "node": "(self, border, hour)",
+        "levels_of": "(self, counts)", "counts_of": "(self, levels)",
+        "passed": "(self, levels, border, since, until)",
+        "sum_claim": f"(self, hour, start, stop, {BOUNDS})",
+        "passage_claim": f"(self, border, since, until, {BOUNDS})",
+    }},
+    "doubts": {
+        "Doubt": {}, "AtMost": {"__init__": "(self, count)", **ALLOWS},
+        "Within": {"__init__": "(self, limit)", **ALLOWS}, "Lots": {"__init__": "(self, lots)", **ALLOWS},
+        "Both": {"__init__": "(self, first, second)", **ALLOWS},
+        "Either": {"__init__": "(self, first, second)", **ALLOWS},
+    },
+    "halls": {"Hall": {
+        "__init__": "(self, frame, claims, *, doubt=None)", "untrue": "(self, levels)", "fits": "(self, levels)",
+    }},
+}
+
+
+class InterfaceTest(unittest.TestCase):
+    def test_functions(self):
+        for file, functions in FUNCTIONS.items():
+            module = importlib.import_module(f"counthall.{file}")
+            for name, signature in functions.items():
+                function = getattr(module, name)
+                self.assertEqual(function.__module__, module.__name__)
+                self.assertEqual(str(inspect.signature(function)), signature, name)
+
+    def test_classes(self):
+        for file, classes in CLASSES.items():
+            module = importlib.import_module(f"counthall.{file}")
+            for name, methods in classes.items():
+                found = getattr(module, name)
+                self.assertEqual(found.__module__, module.__name__)
+                for method, signature in methods.items():
+                    self.assertIn(method, vars(found), f"{name}.{method}")
+                    self.assertEqual(str(inspect.signature(vars(found)[method])), signature, f"{name}.{method}")
+
+
+if __name__ == "__main__":
+    unittest.main()
