@@ -28,7 +28,9 @@ class ExactTest(unittest.TestCase):
         self.assertEqual(check_call(self, exact_counts, AtMost(1), [1, 1, 1], [7, -3, 5]), [])
         self.assertEqual(check_call(self, exact_counts, Within(3), [2, 1, 2], [9, 9, 5]), [5, 9])
         self.assertEqual(check_call(self, exact_counts, Within(2), [2, 1, 2], [9, 9, 5]), [9])
-        self.assertEqual(check_call(self, exact_counts, Lots([[0], [1, 2]]), [1, 1, 1], [10 ** 12, 4, 4]), [4, 10 ** 12])
+        far = 10 ** 12 - 1
+        doubt = Lots([[0], [1, 2]])
+        self.assertEqual(check_call(self, exact_counts, doubt, [1, 1, 1], [far, 4, 4]), [4, far])
         self.assertEqual(exact_counts(AtMost(0), [1], [0]), [0])
 
     def test_parting_values(self):

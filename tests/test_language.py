@@ -131,12 +131,13 @@ class LanguageTest(unittest.TestCase):
         for path, tree in trees():
             taken = {alias.name for node in tree.body if isinstance(node, ast.ImportFrom) for alias in node.names}
             taken |= {node.name for node in tree.body if isinstance(node, ast.ClassDef)}
-            bound = [node.id for node in ast.walk(tree) if isinstance(node, ast.Name) and isinstance(node.ctx, ast.Store)]
+            words = [node for node in ast.walk(tree) if isinstance(node, ast.Name)]
+            bound = [node.id for node in words if isinstance(node.ctx, ast.Store)]
             bound += [node.arg for node in ast.walk(tree) if isinstance(node, ast.arg)]
             for name in bound:
                 self.assertNotIn(name, taken, path)
                 self.assertFalse(hasattr(builtins, name), f"{path}: {name}")
-            read = {node.id for node in ast.walk(tree) if isinstance(node, ast.Name) and isinstance(node.ctx, ast.Load)}
+            read = {node.id for node in words if isinstance(node.ctx, ast.Load)}
             used = {name for name in read if hasattr(builtins, name)}
             self.assertLessEqual(used, BUILTINS, path)
 

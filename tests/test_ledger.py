@@ -93,7 +93,9 @@ class LedgerTest(unittest.TestCase):
         self.assertEqual(ledger.sum_claim(1, 1, 2).parts(), (3, 4, None, None, 1))
         self.assertEqual(ledger.sum_claim(0, 1, 1).parts(), (1, 1, None, None, 1))
         self.assertEqual(ledger.sum_claim(0, 0, 0, 1).parts(), (0, 0, 1, None, 1))
-        for hour, start, stop in [(-1, 0, 1), (-1, 0, 2), (-1, 0, 0), (2, 0, 0), (2, 0, 1), (0, -1, 1), (0, 0, 3), (0, 2, 1), (0, 3, 3)]:
+        for hour, start, stop in [
+            (-1, 0, 1), (-1, 0, 2), (-1, 0, 0), (2, 0, 0), (2, 0, 1), (0, -1, 1), (0, 0, 3), (0, 2, 1), (0, 3, 3),
+        ]:
             check_part(self, InvalidClaim, "nodes", ledger.sum_claim, hour, start, stop, 3, 2, weight=0)
         check_part(self, InvalidClaim, "bounds", ledger.sum_claim, 0, 0, 1, 3, 2, weight=0)
         check_part(self, InvalidClaim, "weight", ledger.sum_claim, 0, 0, 1, weight=0)
@@ -106,7 +108,10 @@ class LedgerTest(unittest.TestCase):
         levels = ledger.levels_of([[1, 2], [0, 3], [0, 0]])
         self.assertTrue(ledger.passage_claim(1, 0, 1, 1, 1).holds(levels))
         self.assertTrue(ledger.passage_claim(2, 0, 2, 3, 3).holds(levels))
-        for border, since, until in [(-1, 0, 1), (-1, 1, 1), (3, 0, 1), (1, -1, 1), (2, -1, 0), (0, -1, 0), (0, 0, 3), (1, 0, 3), (1, 2, 1), (1, 3, 3)]:
+        for border, since, until in [
+            (-1, 0, 1), (-1, 1, 1), (3, 0, 1), (1, -1, 1), (2, -1, 0), (0, -1, 0), (0, 0, 3), (1, 0, 3), (1, 2, 1),
+            (1, 3, 3),
+        ]:
             check_part(self, InvalidClaim, "nodes", ledger.passage_claim, border, since, until, 3, 2, weight=0)
         check_part(self, InvalidClaim, "bounds", ledger.passage_claim, 1, 0, 1, 3, 2, weight=0)
         check_part(self, InvalidClaim, "weight", ledger.passage_claim, 1, 0, 1, weight=100)

@@ -29,7 +29,8 @@ def hard_doubts(random):
 
     half = AtMost(5) | listed(4)
     yield (half & (listed(6) | AtMost(5))) | ((listed(4) | Within(200)) & (AtMost(5) | listed(3)))
-    yield ((listed(7) | listed(7)) & (listed(7) | listed(7))) | ((listed(3) & AtMost(4)) | (Within(10 ** 6) & AtMost(4)))
+    seven = (listed(7) | listed(7)) & (listed(7) | listed(7))
+    yield seven | ((listed(3) & AtMost(4)) | (Within(10 ** 6) & AtMost(4)))
     yield ((AtMost(9) & Within(500)) | (listed(8) | listed(8))) & ((AtMost(9) | listed(9)) & (Within(400) | listed(5)))
     yield ((AtMost(1) | Within(90)) | (AtMost(1) | listed(2))) & ((AtMost(2) | Within(99)) | (AtMost(2) | listed(1)))
 

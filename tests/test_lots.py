@@ -83,7 +83,8 @@ class SetsTest(unittest.TestCase):
             self.assertEqual(least, minimal([list(one) for one in {tuple(sorted(one)) for one in sets}]))
             hitting = check_call(self, hitting_sets, sets)
             if count < 10:
-                self.assertEqual(hitting, minimal([s for s in subsets(count) if all(set(s) & set(one) for one in sets)]))
+                plain = [hit for hit in subsets(count) if all(set(hit) & set(one) for one in sets)]
+                self.assertEqual(hitting, minimal(plain))
             self.assertEqual(hitting_sets(hitting), least)
 
     def test_many_sets(self):
