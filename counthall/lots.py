@@ -49,6 +49,20 @@ def hitting_sets(sets):
     return [[numbers[place] for place in found] for found in least_flagged(hits)]
 
 
+def needed_indexes(masks, lots):
+    """The indexes of some of the masks that no lot meets all of, none of which can be left out.
+
+    Both are lists of masks, and no lot has a member in common with all of the given masks.
+    """
+    missed = [mask_of([at for at, mask in enumerate(masks) if not mask & lot]) for lot in lots]
+    kept = (1 << len(masks)) - 1
+    for at in range(len(masks)):
+        fewer = kept & ~(1 << at)
+        if all(misses & fewer for misses in missed):
+            kept = fewer
+    return members_of(kept)
+
+
 def least_cover(doubt, weights):
     """The least number of allowed lots that contain all claims, with such lots, or None (point 20)."""
     lots = [mask_of(lot) for lot in largest_lots(doubt, weights)]

@@ -60,6 +60,21 @@ def pinned_worlds(table, node, level):
     return least, greatest
 
 
+def all_pinned_worlds(tables, node):
+    """The pinned worlds of each table for each level that the node can have in it."""
+    return [
+        pinned_worlds(table, node, level)
+        for table in tables
+        for level in range(-table[node][0], table[0][node] + 1)
+    ]
+
+
+def difference_world(table, first, second, difference):
+    """A world of the table in which two nodes have this difference, which they have in some world of it."""
+    ways = [min(way, difference + more) for way, more in zip(table[first], table[second])]
+    return [way - ways[0] for way in ways]
+
+
 def column_mix(table, shifts):
     """The world that the columns of the table give when each is shifted by its number (point 25)."""
     tops = [max([shift - item for shift, item in zip(shifts, row)]) for row in table]

@@ -5,8 +5,9 @@ from random import Random
 
 from counthall.claims import Claim
 from counthall.doubts import AtMost, Lots, Within
-from counthall.errors import InvalidFrame
+from counthall.errors import InvalidFrame, NoWorld
 from counthall.frames import Frame
+from counthall.halls import Hall
 
 
 def subsets(count):
@@ -97,6 +98,70 @@ def allowed_lots(doubt, weights):
     return [lot for lot in subsets(len(weights)) if doubt.allows(lot, weights)]
 
 
+def wide_frame(random, size):
+    """A frame with much room, whose levels lie from -6 to 6."""
+    spread = {1: 0, 2: 6, 3: 3, 4: 2}[size]
+    rules = []
+    for node in range(1, size):
+        pair = random.choice([(random.randrange(node), node), (node, random.randrange(node))])
+        rules.append((*pair, random.randint(-spread, 0), random.randint(0, spread)))
+    return Frame(size, rules)
+
+
+def random_hall(random, size, most_claims):
+    """A small hall with levels from -6 to 6, sometimes one that no world fits."""
+    if random.random() < 0.4:
+        frame = random_frame(random, size, {1: 2, 2: 6, 3: 3, 4: 2}[size])
+        claims = [random_claim(random, size) for _ in range(random.randint(0, most_claims))]
+        return Hall(frame, claims, doubt=random_doubt(random, 2))
+    frame = wide_frame(random, size)
+    # Each claim follows one of two worlds, so there are often values far from each other.
+    pair = random.choices(worlds_of(frame, 6), k=2)
+    claims = []
+    sides = ([], [])
+    for index in range(random.randint(0, most_claims)):
+        side = random.randrange(2)
+        sides[side].append(index)
+        first, second = random.choices(range(size), k=2)
+        value = pair[side][second] - pair[side][first]
+        bounds = random.choice([(value, value), (value, value + 1), (value, None), (None, value)])
+        claims.append(Claim(first, second, *bounds, weight=random.randint(1, 4)))
+    many = [AtMost(min(map(len, sides))), AtMost(max(map(len, sides))), AtMost(1)]
+    doubts = [*many, Lots(sides), Lots(sides) & AtMost(2), Within(5), random_doubt(random, 2)]
+    return Hall(frame, claims, doubt=random.choice(doubts))
+
+
+def fitting_worlds(hall, reach):
+    """All fitting worlds of a hall, by its definition, whose levels lie from -reach to reach."""
+    found = []
+    for levels in worlds_of(hall.frame, reach):
+        untrue = [index for index, claim in enumerate(hall.claims) if not claim_holds(claim, levels)]
+        if hall.doubt.allows(untrue, hall.weights):
+            found.append(levels)
+    return found
+
+
+def random_cases(number, many, most_claims=5, sizes=(1, 2, 2, 3, 3, 4)):
+    """Small halls with all their fitting worlds, perhaps none."""
+    random = seeded(number)
+    for _ in range(many):
+        hall = random_hall(random, random.choice(sizes), most_claims)
+        yield random, hall, fitting_worlds(hall, 6)
+
+
+def difference(levels, first, second):
+    return levels[second] - levels[first]
+
+
+def largest_of(hall):
+    """The largest lots of a hall, by a plain search."""
+    return maximal(allowed_lots(hall.doubt, hall.weights))
+
+
+def rest_of(hall, lot):
+    return [claim for index, claim in enumerate(hall.claims) if index not in lot]
+
+
 def simple_chains(frame, claims, start):
     """All chains from a node that come to no node twice, as (end, total, links), rings included."""
     links = []
@@ -168,6 +233,25 @@ def check_call(case, function, *arguments, **named):
     swapped = [as_tuples(argument) for argument in arguments]
     case.assertEqual(function(*swapped, **named), kept, "tuples give another answer")
     return kept
+
+
+def check_no_world(case, function, *arguments, **named):
+    """Check that a call raises NoWorld."""
+    with case.assertRaises(NoWorld):
+        function(*arguments, **named)
+
+
+def check_verdict(case, answer, worlds, holds):
+    """Check a word and its two worlds against all fitting worlds."""
+    case.assertIsInstance(answer, tuple)
+    word, supporting, opposing = answer
+    answers = {holds(levels) for levels in worlds}
+    case.assertEqual(word, {(True,): "certain", (False,): "never"}.get(tuple(answers), "open"))
+    for levels, wanted in [(supporting, True), (opposing, False)]:
+        case.assertEqual(levels is not None, wanted in answers)
+        if levels is not None:
+            case.assertIn(levels, worlds)
+            case.assertEqual(holds(levels), wanted)
 
 
 def check_part(case, error, part, function, *arguments, **named):

@@ -33,6 +33,30 @@ FUNCTIONS = {
         "least_chain": "(frame, claims, first, second)",
     },
     "fitting": {"fitting_lots": "(hall)", "least_lots": "(hall)", "lightest_lot": "(hall)"},
+    "spans": {
+        "span": "(hall, first, second)", "possible_values": "(hall, first, second)", "hull": "(hall)",
+        "verdict": "(hall, first, second, low=None, high=None)", "standings": "(hall)",
+    },
+    "carriers": {
+        "carriers": "(hall, first, second, high)", "breakers": "(hall, first, second, high)",
+    },
+    "sheaves": {
+        "sheaf": "(hall, first, second, high)", "accepts_sheaf": "(hall, first, second, high, papers)",
+        "counter": "(hall, first, second, high)",
+    },
+    "holders": {
+        "rank_in": "(levels, holders, node)", "rank_range": "(hall, holders, node)",
+        "rank_worlds": "(hall, holders, node)", "sure_among": "(hall, holders, places)",
+        "possible_among": "(hall, holders, places)", "shortfall": "(hall, group, node, lead=0)",
+        "sum_range": "(hall, nodes)", "sum_worlds": "(hall, nodes)",
+    },
+    "shares": {"share_verdict": "(hall, holders, node, part, whole)"},
+    "seats": {"seat_order": "(counts, seats, *, step=1)", "divide": "(counts, seats, *, step=1)"},
+    "seatranges": {
+        "seat_range": "(hall, holders, node, seats, *, step=1)",
+        "seat_worlds": "(hall, holders, node, seats, *, step=1)",
+        "sure_seats": "(hall, holders, seats, *, step=1)",
+    },
 }
 
 ALLOWS = {"allows": "(self, lot, weights)"}

@@ -158,6 +158,23 @@ class LanguageTest(unittest.TestCase):
                     keywords = {keyword.arg for keyword in node.keywords}
                     self.assertLessEqual(keywords, KEYWORDS.get(node.func.id, set()), place)
 
+    def test_stars_lambdas_and_generators(self):
+        for path, tree in trees():
+            places = [node.lineno for node in ast.walk(tree) if isinstance(node, ast.Lambda)]
+            self.assertEqual(len(set(places)), len(places), f"{path}: two lambdas on one line")
+            for node in ast.walk(tree):
+                self.assertNotIsInstance(node, (ast.Yield, ast.YieldFrom, ast.NamedExpr), path)
+                if isinstance(node, ast.Name) and node.id == "_":
+                    self.assertIsInstance(node.ctx, ast.Store, f"{path}: {node.lineno}")
+                if not isinstance(node, ast.Call):
+                    continue
+                for argument in node.args:
+                    if isinstance(argument, ast.Starred):
+                        self.assertIsInstance(argument.value, (ast.Name, ast.Attribute), f"{path}: {node.lineno}")
+                    if isinstance(argument, ast.GeneratorExp):
+                        self.assertIn(node.func.id, {"list", "tuple", "sum", "min", "max", "any", "all"})
+                        self.assertFalse(node.keywords, f"{path}: {node.lineno}")
+
     def test_sets_are_not_kept(self):
         for path, tree in trees():
             parents = parents_of(tree)

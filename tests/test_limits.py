@@ -1,69 +1,24 @@
 """Point 99: within the limits each call returns within about a second."""
 
-import time
 import unittest
 from itertools import combinations
 
 from counthall.chains import chain_end, clash_ring, least_chain
 from counthall.claims import Claim
-from counthall.doubts import AtMost, Lots, Within
+from counthall.doubts import AtMost
 from counthall.exact import exact_counts, parting_values
 from counthall.fitting import fitting_lots, least_lots, lightest_lot
-from counthall.frames import Frame
 from counthall.halls import Hall
 from counthall.ledger import Ledger
 from counthall.lots import hitting_sets, largest_lots, least_cover, least_sets, least_sure_groups
 from counthall.readings import ring_frame, row_frame, stand_frame
 from counthall.runs import Runs
 from counthall.tables import closed_table, column_mix, in_table, pinned_worlds, table_of
+from tests.hard import FAR, TimedTest, hard_claims, hard_doubts, hard_frame
 from tests.plain import seeded
 
-SECONDS = 1.0
-FAR = 10 ** 9
 
-
-def hard_doubts(random):
-    """Doubts that are 3 deep, with 24 listed lots each, and few or many largest lots."""
-    def listed(size):
-        return Lots([random.sample(range(10), size) + random.sample(range(10, 40), 9) for _ in range(24)])
-
-    half = AtMost(5) | listed(4)
-    yield (half & (listed(6) | AtMost(5))) | ((listed(4) | Within(200)) & (AtMost(5) | listed(3)))
-    seven = (listed(7) | listed(7)) & (listed(7) | listed(7))
-    yield seven | ((listed(3) & AtMost(4)) | (Within(10 ** 6) & AtMost(4)))
-    yield ((AtMost(9) & Within(500)) | (listed(8) | listed(8))) & ((AtMost(9) | listed(9)) & (Within(400) | listed(5)))
-    yield ((AtMost(1) | Within(90)) | (AtMost(1) | listed(2))) & ((AtMost(2) | Within(99)) | (AtMost(2) | listed(1)))
-
-
-def hard_frame(random, spread):
-    """A frame of 16 nodes with 60 rules and a hidden world, and that world."""
-    world = [0] + [random.randint(-FAR // 2, FAR // 2) for _ in range(15)]
-    pairs = [(node, node + 1) for node in range(15)]
-    pairs += [tuple(random.sample(range(16), 2)) for _ in range(45)]
-    rules = []
-    for first, second in pairs:
-        difference = world[second] - world[first]
-        low = max(-FAR, difference - random.randint(0, spread))
-        rules.append((first, second, low, min(FAR, difference + random.randint(0, spread))))
-    return Frame(16, rules), world
-
-
-def hard_claims(random, world, count, spread):
-    claims = []
-    for _ in range(count):
-        first, second = random.sample(range(16), 2)
-        low = world[second] - world[first] - random.randint(-spread, spread)
-        claims.append(Claim(first, second, low, low + random.randint(0, spread), weight=random.randint(1, 99)))
-    return claims
-
-
-class LimitsTest(unittest.TestCase):
-    def timed(self, function, *arguments, **named):
-        before = time.process_time()
-        answer = function(*arguments, **named)
-        self.assertLess(time.process_time() - before, SECONDS, function)
-        return answer
-
+class LimitsTest(TimedTest):
     def test_runs(self):
         random = seeded(1)
         one = self.timed(Runs, [(4 * at, 4 * at + 1) for at in random.sample(range(300), 300)])
