@@ -162,6 +162,38 @@ def rest_of(hall, lot):
     return [claim for index, claim in enumerate(hall.claims) if index not in lot]
 
 
+def random_estimates(random, most, most_weight=6):
+    """Up to so many estimates with bounds from -12 to 12."""
+    lows = [random.randint(-12, 8) for _ in range(random.randint(0, most))]
+    return [(low, min(12, low + random.choice([0, 1, 3, 9])), random.randint(1, most_weight)) for low in lows]
+
+
+def random_curves(random, boxes, most):
+    """Curves of up to so many numbers."""
+    return [[random.randint(0, 6) for _ in range(random.randint(1, most))] for _ in range(boxes)]
+
+
+def all_counts(curves):
+    """All lists of counts that the curves have prices for, in ascending order."""
+    return [list(counts) for counts in product(*[range(len(costs)) for costs in curves])]
+
+
+def simple_ways(arcs, start, goal):
+    """All ways along arcs from a node to another one that come to no node twice, as lists of indexes."""
+    found = []
+
+    def walk(node, seen, way):
+        if node == goal:
+            found.append(way)
+            return
+        for index, arc in enumerate(arcs):
+            if arc[0] == node and arc[1] not in seen:
+                walk(arc[1], seen | {arc[1]}, [*way, index])
+
+    walk(start, {start}, [])
+    return found
+
+
 def simple_chains(frame, claims, start):
     """All chains from a node that come to no node twice, as (end, total, links), rings included."""
     links = []

@@ -57,6 +57,34 @@ FUNCTIONS = {
         "seat_worlds": "(hall, holders, node, seats, *, step=1)",
         "sure_seats": "(hall, holders, seats, *, step=1)",
     },
+    "grounds": {
+        "holds_in": "(result, levels)", "grounds": "(hall, result)", "against": "(hall, result)",
+    },
+    "estimates": {
+        "untrue_weight": "(estimates, value)", "weight_pieces": "(estimates, first, last)",
+        "heaviest": "(estimates)", "fused": "(estimates, count)", "fused_under": "(estimates, doubt)",
+        "middle_span": "(estimates)",
+    },
+    "ladders": {
+        "ladders": "(estimates)", "accepts_ladders": "(estimates, rows)", "least_clash": "(estimates, count)",
+    },
+    "budgets": {
+        "curve": "(estimates, room)", "price": "(curves, counts)", "total_prices": "(curves)",
+        "cheapest_counts": "(curves, total)", "totals_within": "(curves, limit)",
+    },
+    "budgetranks": {
+        "lead_price": "(curves, first, second, lead)", "rank_price": "(curves, box, rank)",
+        "few_seats_price": "(curves, box, seats, most, *, step=1)",
+        "many_seats_price": "(curves, box, seats, least, *, step=1)",
+    },
+    "flows": {
+        "greatest_flow": "(size, arcs, start, goal)", "flow_chains": "(size, arcs, flows, start, goal)",
+    },
+    "comparisons": {
+        "carried": "(size, comparisons, first, second)",
+        "lesser_counts": "(size, comparisons, first, second, limit)",
+        "group_strength": "(size, comparisons, group, node)",
+    },
 }
 
 ALLOWS = {"allows": "(self, lot, weights)"}
