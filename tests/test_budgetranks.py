@@ -132,6 +132,16 @@ class SeatsTest(PriceTest):
         self.assertEqual(self.check_few(equal, 0, 1, 0), 9)
         self.assertEqual(self.check_few([[9, 9, 9, 9, 0], [9, 9, 0]], 0, 3, 1, step=1), 9)
 
+    def test_the_step_is_1_if_it_is_left_out(self):
+        random = seeded(80)
+        for _ in range(30):
+            curves = random_curves(random, 3, 8)
+            for bound in range(4):
+                few = few_seats_price(curves, 1, 4, bound)
+                self.assertEqual(few, few_seats_price(curves, 1, 4, bound, step=1))
+                many = many_seats_price(curves, 1, 4, bound)
+                self.assertEqual(many, many_seats_price(curves, 1, 4, bound, step=1))
+
     def test_steps(self):
         for step in range(1, 10):
             for bound in range(5):

@@ -38,6 +38,7 @@ class UntrueWeightTest(unittest.TestCase):
         self.assertEqual(check_call(self, weight_pieces, THREE, 3, 3), [(3, 3, 1)])
         self.assertEqual(check_call(self, weight_pieces, [], -FAR, FAR), [(-FAR, FAR, 0)])
         self.assertEqual(weight_pieces([(5, 5, 3)], -2, 4), [(-2, 4, 3)])
+        self.assertEqual(weight_pieces(THREE, 3, 2), [])
 
     def test_neighbours_with_equal_weight_are_one_piece(self):
         estimates = [(1, 3, 2), (4, 6, 2), (7, 9, 3)]

@@ -126,6 +126,12 @@ class ShortfallTest(unittest.TestCase):
         self.assertLess(levels[2], levels[1] - 2)
         self.assertEqual(shortfall(STAND, [2], 1, lead=-3), None)
 
+    def test_the_lead_is_0_if_it_is_left_out(self):
+        one_less = Hall(stand_frame([9, 9]), [lead_claim(0, 1, -1, -1)])
+        self.assertIsNotNone(check_call(self, shortfall, one_less, [1], 2))
+        self.assertIsNone(shortfall(one_less, [1], 2, -1))
+        self.assertIsNone(check_call(self, shortfall, Hall(one_less.frame, [lead_claim(0, 1, 0, 0)]), [1], 2))
+
     def test_one_of_the_group_is_enough(self):
         claims = [lead_claim(0, 2, 0), lead_claim(1, 2, 0)]
         hall = Hall(stand_frame([9, 9, 9]), claims, doubt=AtMost(1))

@@ -84,6 +84,12 @@ class AcceptsLaddersTest(unittest.TestCase):
         ]:
             self.check_answer(estimates, rows, answer)
 
+    def test_bounds_that_touch(self):
+        self.check_answer([(1, 3, 1), (3, 5, 1)], [[0, 1]], False)
+        self.check_answer([(1, 3, 1), (3, 5, 1)], [[1], [0]], True)
+        self.check_answer([(1, 3, 1), (4, 5, 1)], [[0, 1]], True)
+        self.check_answer([(3, 3, 1), (3, 3, 1)], [[0, 1]], False)
+
     def test_random_rows(self):
         random = seeded(60)
         answers = {True: 0, False: 0}

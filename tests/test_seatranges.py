@@ -30,6 +30,16 @@ class SeatRangesTest(unittest.TestCase):
             shares = divide([8, 5, 3], 6, step=step)
             self.assertEqual(check_call(self, sure_seats, exact, [1, 2, 3], 6, step=step), [(x, x) for x in shares])
 
+    def test_the_step_is_1_if_it_is_left_out(self):
+        wide = Hall(stand_frame([99, 99]), [count_claim(0, 6, 21), count_claim(1, 10, 10)])
+        for named in ({}, {"step": 1}, {"step": 2}, {"step": 9}):
+            counts = [divide([count, 10], 4, **named)[0] for count in range(6, 22)]
+            self.assertEqual(seat_range(wide, [1, 2], 1, 4, **named), (min(counts), max(counts)))
+            fewest, most = seat_worlds(wide, [1, 2], 1, 4, **named)
+            self.assertEqual(divide(fewest[1:], 4, **named)[0], min(counts))
+            self.assertEqual(divide(most[1:], 4, **named)[0], max(counts))
+            self.assertEqual(sure_seats(wide, [1, 2], 4, **named)[0], (min(counts), max(counts)))
+
     def test_the_order_of_the_holders_decides_between_equal_quotients(self):
         equal = Hall(stand_frame([9, 9]), [count_claim(0, 5, 5), count_claim(1, 5, 5)])
         self.assertEqual(check_call(self, sure_seats, equal, [1, 2], 1), [(1, 1), (0, 0)])
