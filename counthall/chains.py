@@ -49,6 +49,14 @@ def least_chain(frame, claims, first, second):
     return totals[second], chains[second]
 
 
+def renumbered(chain, numbers):
+    """The chain with another number for each of its claims, the item of a list at the claim's index."""
+    return [
+        (source, numbers[index] if source == "claim" else index, direction)
+        for source, index, direction in chain
+    ]
+
+
 def _step(frame, claims, link):
     """The start, the end and the length of a link, and the link itself; None if it does not exist."""
     source, index, direction = link

@@ -15,7 +15,7 @@ class Frame:
             raise InvalidFrame("size")
         if len(kept) > MOST_RULES or not all(_is_rule(size, rule) for rule in kept):
             raise InvalidFrame("rules")
-        if not _is_connected(size, kept):
+        if not is_connected(size, kept):
             raise InvalidFrame("open")
         table = _greatest_differences(size, kept)
         if any(table[node][node] < 0 for node in range(size)):
@@ -40,7 +40,7 @@ def _is_rule(size, rule):
     return 0 <= first < size and 0 <= second < size and first != second and low <= high
 
 
-def _is_connected(size, rules):
+def is_connected(size, rules):
     reached = {0: True}
     # Each pass over the rules reaches a further node, unless no more can be reached.
     for _ in range(size):

@@ -1,7 +1,7 @@
 """Sheaves of papers that prove a bound whichever lot is false, and counters that refute it."""
 
 from counthall.carriers import carrying_flags, needed_carriers
-from counthall.chains import chain_end, clash_ring, least_chain
+from counthall.chains import chain_end, clash_ring, least_chain, renumbered
 from counthall.errors import BrokenChain
 from counthall.fitting import rest_tables
 from counthall.lots import largest_lots
@@ -43,12 +43,7 @@ def _paper(hall, chosen, first, second):
         start, chain = first, least_chain(hall.frame, claims, first, second)[1]
     else:
         start, chain = found
-    return start, [_link_of_hall(link, chosen) for link in chain]
-
-
-def _link_of_hall(link, chosen):
-    source, index, direction = link
-    return (source, chosen[index] if source == "claim" else index, direction)
+    return start, renumbered(chain, chosen)
 
 
 def _is_paper(hall, first, second, high, start, chain):

@@ -10,12 +10,24 @@ def check_nodes(frame, claims):
             raise NoSuchNode(index)
 
 
+def bounded(table, start, end, length):
+    """The closed table of the worlds of a table in which a difference is at most a number, or None if there is none."""
+    if table[end][start] + length < 0:
+        return None
+    if table[start][end] <= length:
+        return table
+    # A lesser difference passes the new bound exactly once, and a row that gains nothing
+    # by passing it gains nothing behind it either.
+    beyond = [length + more for more in table[end]]
+    return [row if row[start] + length >= row[end] else _lowered(row, row[start], beyond) for row in table]
+
+
 def with_claim(table, claim):
     """The closed table of the worlds of a table in which the claim holds, or None if there is none."""
     if claim.high is not None:
-        table = _bounded(table, claim.first, claim.second, claim.high)
+        table = bounded(table, claim.first, claim.second, claim.high)
     if claim.low is not None and table is not None:
-        table = _bounded(table, claim.second, claim.first, -claim.low)
+        table = bounded(table, claim.second, claim.first, -claim.low)
     return table
 
 
@@ -101,17 +113,6 @@ def table_of(worlds):
     """The table of the greatest differences in the worlds (point 25)."""
     nodes = list(range(len(worlds[0])))
     return [[max([levels[other] - levels[node] for levels in worlds]) for other in nodes] for node in nodes]
-
-
-def _bounded(table, start, end, length):
-    if table[end][start] + length < 0:
-        return None
-    if table[start][end] <= length:
-        return table
-    # A lesser difference passes the new bound exactly once, and a row that gains nothing
-    # by passing it gains nothing behind it either.
-    beyond = [length + more for more in table[end]]
-    return [row if row[start] + length >= row[end] else _lowered(row, row[start], beyond) for row in table]
 
 
 def _lowered(row, way, beyond):

@@ -85,6 +85,28 @@ FUNCTIONS = {
         "lesser_counts": "(size, comparisons, first, second, limit)",
         "group_strength": "(size, comparisons, group, node)",
     },
+    "ties": {
+        "tied": "(size, ties, first, second)", "strength_tree": "(size, ties)",
+        "tree_strength": "(tree, first, second)", "borne": "(tree, first, second)",
+    },
+    "askings": {
+        "cheapest_askings": "(size, offers, first, second, ways)",
+        "askings_bound": "(offers, first, second, ways, levels)",
+    },
+    "growth": {
+        "growth": "(claims, levels)", "flow_gap": "(frame, claims, flow)",
+        "least_growth": "(frame, claims)", "cheapest_table": "(frame, claims)",
+    },
+    "growthcurve": {
+        "growth_against": "(frame, claims, first, second, high)",
+        "growth_curve": "(frame, claims, first, second)",
+    },
+    "even": {
+        "even_growth": "(frame, claims, shares=None)", "even_fraction": "(frame, claims, shares=None)",
+        "even_against": "(frame, claims, first, second, high, shares=None)",
+    },
+    "traffic": {"traffic": "(ledger, levels)", "least_traffic": "(ledger, claims)"},
+    "plans": {"told_hall": "(plan, telling, doubt)"},
 }
 
 ALLOWS = {"allows": "(self, lot, weights)"}
@@ -114,6 +136,7 @@ CLASSES = {
     "halls": {"Hall": {
         "__init__": "(self, frame, claims, *, doubt=None)", "untrue": "(self, levels)", "fits": "(self, levels)",
     }},
+    "plans": {"Plan": {"__init__": "(self, size, limits, askings)"}},
 }
 
 

@@ -16,8 +16,9 @@ BUILTINS = set(
 VALUE_METHODS = set(
     "append clear copy count endswith extend find get index insert isalnum isalpha isdigit islower isspace isupper"
     " items join keys ljust lower lstrip partition pop remove replace reverse rfind rjust rpartition rsplit rstrip"
-    " setdefault split splitlines startswith strip update upper values zfill bit_length add discard".split()
+    " setdefault split splitlines startswith strip update upper values zfill bit_length add discard isascii".split()
 )
+LIBRARY = {("math", "gcd")}
 DOUBLE = set(
     "__init__ __eq__ __repr__ __str__ __len__ __iter__ __contains__ __bool__ __and__ __or__".split()
 )
@@ -78,7 +79,8 @@ class LanguageTest(unittest.TestCase):
                     names += [alias.name for alias in node.names]
                     self.assertTrue(all(alias.asname is None for alias in node.names))
                 elif isinstance(node, ast.Assign):
-                    self.assertIsInstance(node.value, ast.Constant)
+                    parts = node.value.elts if isinstance(node.value, ast.Tuple) else [node.value]
+                    self.assertTrue(all(isinstance(part, ast.Constant) for part in parts), f"{path}: {node.lineno}")
                     names += [target.id for target in node.targets]
                 else:
                     names.append(node.name)
@@ -89,8 +91,10 @@ class LanguageTest(unittest.TestCase):
         defined = {}
         for path, tree in trees():
             imports = [node for node in ast.walk(tree) if isinstance(node, ast.ImportFrom)]
-            self.assertTrue(all(node.level == 0 and node.module.startswith("counthall.") for node in imports), path)
-            uses[f"counthall.{path.stem}"] = [(node.module, alias.name) for node in imports for alias in node.names]
+            self.assertTrue(all(node.level == 0 for node in imports), path)
+            taken = {(node.module, alias.name) for node in imports for alias in node.names} - LIBRARY
+            self.assertTrue(all(module.startswith("counthall.") for module, _ in taken), path)
+            uses[f"counthall.{path.stem}"] = sorted(taken)
             named = [node.name for node in tree.body if isinstance(node, (ast.FunctionDef, ast.ClassDef))]
             named += [node.targets[0].id for node in tree.body if isinstance(node, ast.Assign)]
             defined[f"counthall.{path.stem}"] = named
