@@ -21,6 +21,16 @@ def rank_worlds(hall, holders, node):
     return _best_world(tables, holders, node), _worst_world(tables, holders, node)
 
 
+def rank_ranges(hall, holders):
+    """For each holder, in their order, its best and its worst rank in the fitting worlds."""
+    tables = fitting_tables(hall)
+    return [
+        (node, rank_in(_best_world(tables, holders, node), holders, node),
+         rank_in(_worst_world(tables, holders, node), holders, node))
+        for node in holders
+    ]
+
+
 def sure_among(hall, holders, places):
     """The ascending list of the holders whose worst rank is within the places (point 41)."""
     tables = fitting_tables(hall)

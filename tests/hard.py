@@ -82,6 +82,8 @@ class TimedTest(unittest.TestCase):
 
     def timed(self, function, *arguments, **named):
         before = time.process_time()
-        answer = function(*arguments, **named)
-        self.assertLess(time.process_time() - before, SECONDS, function)
-        return answer
+        try:
+            return function(*arguments, **named)
+        finally:
+            # A call that raises an error is measured, too.
+            self.assertLess(time.process_time() - before, SECONDS, function)

@@ -107,6 +107,23 @@ FUNCTIONS = {
     },
     "traffic": {"traffic": "(ledger, levels)", "least_traffic": "(ledger, claims)"},
     "plans": {"told_hall": "(plan, telling, doubt)"},
+    "parting": {
+        "parting": "(plan, doubt, first, second)", "parting_case": "(plan, doubt, first, second)",
+    },
+    "accounts": {
+        "account_levels": "(size, accounts)", "suspects": "(size, accounts)",
+        "corrected": "(size, accounts, index)", "suspect_ring": "(size, accounts)",
+    },
+    "hunts": {"hunt": "(size, accounts, prices=None)", "follow": "(tree, levels)"},
+    "settling": {
+        "settles": "(hall, first, second, high, start, goal)",
+        "cheapest_settling": "(hall, first, second, high, offers)",
+    },
+    "texts": {
+        "format_doubt": "(doubt)", "parse_doubt": "(text)", "format_hall": "(hall)", "parse_hall": "(text)",
+    },
+    "deeds": {"format_deeds": "(deeds)", "parse_deeds": "(text)"},
+    "desk": {"replay": "(frame, text, *, doubt=None)"},
 }
 
 ALLOWS = {"allows": "(self, lot, weights)"}
@@ -137,6 +154,16 @@ CLASSES = {
         "__init__": "(self, frame, claims, *, doubt=None)", "untrue": "(self, levels)", "fits": "(self, levels)",
     }},
     "plans": {"Plan": {"__init__": "(self, size, limits, askings)"}},
+    "desk": {"Desk": {
+        "__init__": "(self, frame, *, doubt=None)", "__iter__": "(self)", "tell": f"(self, first, second, {BOUNDS})",
+        "recount": "(self, first, second, value)", "correct": "(self, number, low=None, high=None)",
+        "withdraw": "(self, number)", "set_doubt": "(self, doubt)", "undo": "(self)", "redo": "(self)",
+        "standing": "(self)", "numbers": "(self)", "hall": "(self)", "span": "(self, first, second)",
+        "verdict": "(self, first, second, low=None, high=None)", "standings": "(self)", "ranks": "(self, holders)",
+        "settle": "(self, first, second, high, offers)", "least_lots": "(self)",
+        "sheaf": "(self, first, second, high)", "attempt": "(self, deeds, first, second)", "deeds": "(self)",
+        "journal": "(self)",
+    }},
 }
 
 
