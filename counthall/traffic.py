@@ -4,7 +4,7 @@ from counthall.chains import clash_ring
 from counthall.errors import Clash
 from counthall.flows import cheapest_flows
 from counthall.growth import rule_bands, tight_table
-from counthall.tables import check_nodes, column_world
+from counthall.tables import column_world
 
 
 def traffic(ledger, levels):
@@ -15,7 +15,6 @@ def traffic(ledger, levels):
 def least_traffic(ledger, claims):
     """The least traffic of a world in which all claims hold, and such a world (point 73)."""
     frame = ledger.frame
-    check_nodes(frame, claims)
     found = clash_ring(frame, claims)
     if found is not None:
         start, ring = found

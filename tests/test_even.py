@@ -194,6 +194,20 @@ class EvenFractionTest(unittest.TestCase):
                     claims[second + at] = Claim(*pairs[second + at], [99, 99, 99, 98, 98][at])
                 self.assertEqual(self.check_fraction(frame, claims, given), answer)
 
+    def test_fractions_that_lie_as_close_as_they_can(self):
+        # Two rings share 14 claims, whose shares have the sum 1386; one claim more closes each of them.
+        frame = Frame(16, [(0, node, -10 ** 9, 10 ** 9) for node in range(1, 16)])
+        common = [Claim(node, node + 1, 99) for node in range(1, 15)]
+        for low, other, answer in [(0, -1, (1386, 1387)), (-1385, -1385, (1, 1386)), (0, 0, (1, 1))]:
+            closing = [(Claim(15, 1, low), 1), (Claim(15, 1, other), 0)]
+            for pairs in (closing, closing[::-1]):
+                for places in (slice(0, 0), slice(7, 7), slice(14, 14)):
+                    claims = list(common)
+                    claims[places] = [claim for claim, _ in pairs]
+                    shares = [99] * 14
+                    shares[places] = [share for _, share in pairs]
+                    self.assertEqual(self.check_fraction(frame, claims, shares), answer)
+
     def test_against_all_rings(self):
         answers = []
         for _, frame, claims, shares, _ in random_even(542, 150, 4):
@@ -250,12 +264,12 @@ class EvenAgainstTest(unittest.TestCase):
 
 class NodesTest(unittest.TestCase):
     def test_nodes_that_the_frame_does_not_have(self):
-        claims = [Claim(0, 1, 10), Claim(2, 0)]
+        claims = [Claim(0, 1, 10), Claim(0, 1), Claim(2, 0, 5, 5), Claim(0, 15)]
         for function, more in [(even_growth, []), (even_fraction, []), (even_against, [0, 1, 10 ** 6])]:
-            for shares in (None, [0, 0]):
+            for shares in (None, [0] * 4, [1, 0, 0, 1], [0, 1, 1, 0], [1, 1, 1, 0], [0, 1, 0, 1]):
                 with self.assertRaises(NoSuchNode) as caught:
                     function(ROW, claims, *more, shares)
-                self.assertEqual(caught.exception.index, 1)
+                self.assertEqual(caught.exception.index, 2)
 
 
 if __name__ == "__main__":

@@ -214,6 +214,18 @@ class LeastGrowthTest(unittest.TestCase):
             clashes += self.check_least(frame, claims, cases)[0] > 0
         self.assertGreater(clashes, 80)
 
+    def test_exact_claims_with_great_weights(self):
+        random = seeded(523)
+        for _ in range(200):
+            frame = random_frame(random, random.choice([2, 3, 3, 4]), 3)
+            claims = []
+            for _ in range(random.randint(2, 8)):
+                first, second = random.sample(range(frame.size), 2)
+                value = random.randint(-4, 4)
+                claims.append(Claim(first, second, value, value, weight=random.choice([1, 2, 5, 8, 9])))
+            cases = [(plain_growth(claims, levels), levels) for levels in worlds_of(frame, 12 if frame.size < 4 else 9)]
+            self.check_least(frame, claims, cases)
+
     def test_frames_with_one_world(self):
         frame = Frame(3, [(0, 1, 4, 4), (1, 2, -2, -2)])
         claims = [Claim(0, 2, 5, 6, weight=9), Claim(2, 1, None, 0)]
