@@ -45,6 +45,8 @@ class LedgerTest(unittest.TestCase):
         for rooms, last in [([], 0), ([], -1), ([1], -1), ([1] * 16, 0), ([1], 15), ([1] * 5, 3)]:
             check_part(self, InvalidFrame, "size", Ledger, rooms, last)
         check_part(self, InvalidFrame, "size", Ledger, [-1], -1, gates=[1, 2])
+        check_part(self, InvalidFrame, "size", Ledger, [-1] * 16, 0)
+        check_part(self, InvalidFrame, "size", Ledger, [9, -1], 7, gates=[-1])
         check_part(self, InvalidFrame, "rules", Ledger, [1, -1], 1)
         check_part(self, InvalidFrame, "rules", Ledger, [1, 1], 1, gates=[])
         check_part(self, InvalidFrame, "rules", Ledger, [1, 1], 1, gates=[1])
